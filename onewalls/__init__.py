@@ -1,0 +1,1 @@
+"""Onewalls: the cheapest walls of a net, told by one tree."""
