@@ -53,3 +53,16 @@ def see_refused(case, error, call, *told, **named):
             case.assertEqual(isinstance(caught, refusal), refusal is error)
         return
     case.fail("was not refused by " + error.__name__)
+
+
+def see_two_refused(case, call, net):
+    """Fail unless the call refuses all that are not two places of the net."""
+    for wrong in no_places(net.many):
+        for right in range(net.many):
+            see_refused(case, NoPlace, call, net, wrong, right)
+            see_refused(case, NoPlace, call, net, right, wrong)
+        see_refused(case, NoPlace, call, net, wrong, wrong)
+        see_refused(case, NoPlace, call, net, wrong, net.many)
+        see_refused(case, NoPlace, call, net, -1, wrong)
+    for place in range(net.many):
+        see_refused(case, NoPlace, call, net, place, place)
